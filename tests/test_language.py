@@ -1,0 +1,88 @@
+"""Those rules of the language subset that can be checked line by line and word by word."""
+
+import ast
+import builtins
+import pathlib
+import re
+import unittest
+
+import tiedmoments
+
+FOLDER = pathlib.Path(tiedmoments.__file__).parent
+FILES = sorted(FOLDER.glob("*.py"))
+BUILTINS = """len range enumerate zip min max sum abs sorted reversed int str bool bytes list tuple dict set frozenset
+    isinstance ord repr any all divmod pow getattr hasattr setattr Exception ValueError TypeError KeyError IndexError
+    LookupError ZeroDivisionError ArithmeticError OverflowError RuntimeError NotImplementedError AttributeError
+    StopIteration NotImplemented iter next map property staticmethod classmethod super object float""".split()
+DECORATORS = ["property", "staticmethod", "classmethod"]
+SPECIAL = """__init__ __eq__ __repr__ __str__ __len__ __call__ __or__ __and__ __contains__ __bool__""".split()
+
+
+def nodes(path, kind):
+    return [node for node in ast.walk(ast.parse(path.read_text())) if isinstance(node, kind)]
+
+
+class LanguageTest(unittest.TestCase):
+
+    def test_the_folder_holds_files_with_plain_names_only(self):
+        for path in FOLDER.iterdir():
+            if path.name != "__pycache__":
+                self.assertIsNotNone(re.fullmatch("[a-z0-9_]+[.]py", path.name), path)
+        self.assertIn("__init__.py", [path.name for path in FILES])
+
+    def test_characters_and_sizes(self):
+        for path in FILES:
+            text = path.read_bytes().decode("ascii")
+            self.assertTrue(all(sign == "\n" or " " <= sign <= "~" for sign in text), path)
+            lines = text.splitlines()
+            self.assertLessEqual(len(lines), 399, path)
+            self.assertLessEqual(max(map(len, lines)), 120, path)
+            for node in nodes(path, ast.FunctionDef):
+                self.assertLessEqual(node.end_lineno - node.lineno + 1, 40, (path, node.name))
+
+    def test_imports(self):
+        modules = [path.stem for path in FILES]
+        for path in FILES:
+            self.assertEqual(nodes(path, ast.Import), [], path)
+            for node in nodes(path, ast.ImportFrom):
+                package, _, module = node.module.partition(".")
+                self.assertEqual((package, node.level), ("tiedmoments", 0), path)
+                self.assertIn(module, modules)
+                defined = nodes(FOLDER / (module + ".py"), (ast.FunctionDef, ast.ClassDef, ast.Assign))
+                names = [getattr(found, "name", None) or found.targets[0] for found in defined]
+                names = [name.id if isinstance(name, ast.Name) else name for name in names]
+                for alias in node.names:
+                    self.assertIn(alias.name, names)
+
+    def test_builtins(self):
+        for path in FILES:
+            for node in nodes(path, ast.Name):
+                if node.id in dir(builtins):
+                    self.assertIn(node.id, BUILTINS, path)
+                    self.assertIsInstance(node.ctx, ast.Load, (path, node.id))
+            for node in nodes(path, ast.arg):
+                self.assertNotIn(node.arg, dir(builtins), path)
+
+    def test_statements_and_values(self):
+        barred = (ast.Global, ast.AsyncFunctionDef, ast.AsyncFor, ast.AsyncWith, ast.Await, ast.Div, ast.MatMult)
+        for path in FILES:
+            self.assertEqual(nodes(path, barred), [], path)
+            for node in nodes(path, ast.Constant):
+                self.assertNotIsInstance(node.value, (float, complex), path)
+                if isinstance(node.value, str):
+                    self.assertNotIn("%", node.value, path)
+
+    def test_decorators_and_special_methods(self):
+        for path in FILES:
+            for node in nodes(path, ast.ClassDef):
+                self.assertEqual(node.decorator_list, [], path)
+            for node in nodes(path, ast.FunctionDef):
+                for decorator in node.decorator_list:
+                    name = decorator.attr if isinstance(decorator, ast.Attribute) else decorator.id
+                    self.assertIn(name, DECORATORS + ["setter"], (path, node.name))
+                if node.name.startswith("__"):
+                    self.assertIn(node.name, SPECIAL, path)
+
+
+if __name__ == "__main__":
+    unittest.main()

@@ -1,0 +1,1 @@
+"""Conditions on the moments of a message log, as further ties."""
