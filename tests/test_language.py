@@ -72,6 +72,16 @@ class LanguageTest(unittest.TestCase):
                 if isinstance(node.value, str):
                     self.assertNotIn("%", node.value, path)
 
+    def test_no_method_is_called_by_the_name_of_an_attribute(self):
+        # What an operator runs calls nothing that an object holds, and such a call looks like one.
+        found = [node for path in FILES for node in nodes(path, ast.Attribute)]
+        stored = {node.attr for node in found if isinstance(node.ctx, ast.Store)}
+        self.assertIn("index", stored)
+        for path in FILES:
+            for node in nodes(path, ast.Call):
+                if isinstance(node.func, ast.Attribute):
+                    self.assertNotIn(node.func.attr, stored, (path, node.lineno))
+
     def test_decorators_and_special_methods(self):
         for path in FILES:
             for node in nodes(path, ast.ClassDef):

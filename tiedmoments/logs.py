@@ -72,7 +72,7 @@ class Log:
 
     def upto(self, moment):
         """The log of the steps that a moment has."""
-        if not _is_point(moment, self.lengths()):
+        if not are_places(moment, self.lengths()):
             raise InvalidMoment(moment)
         rows = [(name, steps[:place]) for (name, steps), place in zip(self._rows, moment)]
         if _first_unsent(rows) is not None:
@@ -240,7 +240,8 @@ def _can_be_made(step, made):
     return deed is None or deed[0] == "send" or ("send", deed[1]) in made
 
 
-def _is_point(value, lengths):
+def are_places(value, lengths):
+    """Whether any value is a tuple with a place for each row, from 0 to the length of the row."""
     if not isinstance(value, tuple) or len(value) != len(lengths):
         return False
     return all([is_number(place, 0, length) for place, length in zip(value, lengths)])
@@ -279,8 +280,10 @@ def _without_unsent(rows):
 
 def _ahead_of(deed, steps):
     """The steps that stand ahead of the one with a deed, or all if none has it."""
-    deeds = [step[2] for step in steps]
-    return steps[:deeds.index(deed)] if deed in deeds else steps
+    length = 0
+    while length < len(steps) and steps[length][2] != deed:
+        length += 1
+    return steps[:length]
 
 
 def _row_text(name, steps):
