@@ -52,11 +52,19 @@ def read_step(text):
         return None
     rest, deed = _split_deed(text)
     mark, equals, digits = rest.partition("=")
-    step = (mark, _read_number(digits) if equals else 0, deed)
+    step = (mark, read_number(digits) if equals else 0, deed)
     # A step has one text only: writing it again refuses all other spellings, such as x=0 or x=05.
     if is_step(step) and step_text(step) == text:
         return step
     return None
+
+
+def read_number(text):
+    """The number that is written with one or two digits, perhaps with leading zeros, or None."""
+    digits = text.removeprefix("-")
+    if len(digits) > 2 or not _consists_of(digits, DIGITS):
+        return None
+    return int(text)
 
 
 def _consists_of(text, signs):
@@ -78,11 +86,3 @@ def _split_deed(text):
         if found:
             return rest, (kind, message)
     return text, None
-
-
-def _read_number(text):
-    """The number that is written with one or two digits, or None."""
-    digits = text.removeprefix("-")
-    if len(digits) > 2 or not _consists_of(digits, DIGITS):
-        return None
-    return int(text)
