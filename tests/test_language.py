@@ -16,10 +16,91 @@ BUILTINS = """len range enumerate zip min max sum abs sorted reversed int str bo
     StopIteration NotImplemented iter next map property staticmethod classmethod super object float""".split()
 DECORATORS = ["property", "staticmethod", "classmethod"]
 SPECIAL = """__init__ __eq__ __repr__ __str__ __len__ __call__ __or__ __and__ __contains__ __bool__""".split()
+OPERATORS = ["__or__", "__and__", "__contains__", "__bool__"]
+CALM = ["__eq__", "__repr__", "__str__", "__len__"]
+CHANGING = "append clear extend insert pop remove reverse setdefault update sort add discard".split()
+FRESH = (ast.List, ast.Dict, ast.Set, ast.ListComp, ast.DictComp, ast.SetComp)
 
 
 def nodes(path, kind):
     return [node for node in ast.walk(ast.parse(path.read_text())) if isinstance(node, kind)]
+
+
+def functions_by_name():
+    """All functions and methods of the package, and the constructors of its classes under the classes' names."""
+    found = {}
+    for path in FILES:
+        for node in nodes(path, ast.FunctionDef):
+            found.setdefault(node.name, []).append(node)
+        for node in nodes(path, ast.ClassDef):
+            makers = [part for part in node.body if isinstance(part, ast.FunctionDef) and part.name == "__init__"]
+            found.setdefault(node.name, []).extend(makers)
+    return found
+
+
+def called_names(function):
+    """The names under which a function calls something, and those of the attributes that it reads."""
+    for node in ast.walk(function):
+        if isinstance(node, ast.Call) and isinstance(node.func, ast.Name):
+            yield node.func.id
+        if isinstance(node, ast.Attribute):
+            yield node.attr
+
+
+def run_by(starts):
+    """All functions that may be run by some functions, by their names alone."""
+    known = functions_by_name()
+    found = list(starts)
+    for function in found:
+        for name in called_names(function):
+            found.extend([other for other in known.get(name, []) if other not in found])
+    return found
+
+
+def own_values(function):
+    """The local variables that are only ever assigned new lists and dicts."""
+    assigned = {}
+    for node in ast.walk(function):
+        if isinstance(node, ast.Assign):
+            for target in node.targets:
+                if isinstance(target, ast.Name):
+                    assigned.setdefault(target.id, []).append(node.value)
+    return [name for name, values in assigned.items() if all(isinstance(value, FRESH) for value in values)]
+
+
+def changes(function):
+    """The places at which a function changes something that it did not create, or calls what it is passed."""
+    own = own_values(function)
+    local = [node.arg for node in ast.walk(function) if isinstance(node, ast.arg)]
+    local += [node.id for node in ast.walk(function) if isinstance(node, ast.Name) and isinstance(node.ctx, ast.Store)]
+    for node in ast.walk(function):
+        if isinstance(node, ast.Attribute) and not isinstance(node.ctx, ast.Load):
+            if function.name != "__init__":
+                yield function.name, node.lineno
+        if isinstance(node, ast.Subscript) and not isinstance(node.ctx, ast.Load):
+            if not isinstance(node.value, ast.Name) or node.value.id not in own:
+                yield function.name, node.lineno
+        if isinstance(node, ast.Call) and isinstance(node.func, ast.Name) and node.func.id in local:
+            yield function.name, node.lineno
+        if isinstance(node, ast.Call) and isinstance(node.func, ast.Attribute) and node.func.attr in CHANGING:
+            changed = node.func.value
+            while isinstance(changed, (ast.Subscript, ast.Call, ast.Attribute)):
+                changed = changed.func if isinstance(changed, ast.Call) else changed.value
+            if not isinstance(changed, ast.Name) or changed.id not in own:
+                yield function.name, node.lineno
+        if isinstance(node, (ast.Global, ast.Nonlocal, ast.Delete)):
+            yield function.name, node.lineno
+        if isinstance(node, ast.AugAssign) and not isinstance(node.value, ast.Constant):
+            yield function.name, node.lineno
+
+
+def started_by(names):
+    """The functions with some names, and the properties, which are read like attributes."""
+    known = functions_by_name()
+    listed = [function for name in names for function in known.get(name, [])]
+    read = [node for path in FILES for node in nodes(path, ast.FunctionDef) for decorator in node.decorator_list
+            if isinstance(decorator, ast.Name) and decorator.id == "property"]
+    return listed + read
 
 
 class LanguageTest(unittest.TestCase):
@@ -81,6 +162,22 @@ class LanguageTest(unittest.TestCase):
             for node in nodes(path, ast.Call):
                 if isinstance(node.func, ast.Attribute):
                     self.assertNotIn(node.func.attr, stored, (path, node.lineno))
+
+    def test_what_operators_run_changes_nothing(self):
+        for function in run_by(started_by(OPERATORS + CALM)):
+            self.assertEqual(list(changes(function)), [], function.name)
+
+    def test_what_a_repr_runs_makes_no_object_and_raises_nothing(self):
+        classes = [node.name for path in FILES for node in nodes(path, ast.ClassDef)]
+        functions = run_by(started_by(CALM))
+        self.assertIn("end", [function.name for function in functions])
+        for function in functions:
+            self.assertEqual(list(changes(function)), [], function.name)
+            self.assertNotIn("__init__", function.name)
+            for node in ast.walk(function):
+                self.assertNotIsInstance(node, (ast.Raise, ast.Yield, ast.YieldFrom), (function.name, node))
+                if isinstance(node, ast.Call) and isinstance(node.func, ast.Name):
+                    self.assertNotIn(node.func.id, classes, function.name)
 
     def test_decorators_and_special_methods(self):
         for path in FILES:

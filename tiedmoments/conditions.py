@@ -97,18 +97,19 @@ def names_in(clause):
 
 def all_hold(log, condition, places):
     """Whether all clauses of a condition hold where the processes are at these places."""
-    return all([clause_holds(log, clause, places) for clause in condition])
+    rows = dict(log.rows())
+    return all([clause_holds(rows, clause, places) for clause in condition])
 
 
-def clause_holds(log, clause, places):
-    """Whether a clause holds where the processes are at these places."""
+def clause_holds(rows, clause, places):
+    """Whether a clause holds where the processes, whose rows are given by their names, are at these places."""
     kind = clause[0]
     if kind == "at":
-        return _mark_in(log, places, clause[1]) in clause[2]
+        return _mark_in(rows, places, clause[1]) in clause[2]
     if kind == "lead":
-        return _lead_in(log, places, clause) <= clause[5]
+        return _lead_in(rows, places, clause) <= clause[5]
     if kind == "pair":
-        return (_mark_in(log, places, clause[1]), _mark_in(log, places, clause[2])) in clause[3]
+        return (_mark_in(rows, places, clause[1]), _mark_in(rows, places, clause[2])) in clause[3]
     if kind == "tie":
         return not has(places, clause[1]) or has(places, clause[2])
     if kind == "floor":
@@ -119,14 +120,15 @@ def clause_holds(log, clause, places):
 def held_pairs(log, clause):
     """For each possible pair of places at which a pair clause holds, the least moment that has both."""
     kind, process, other, pairs = clause
+    rows = dict(log.rows())
     known = pasts(log)
     found = {}
-    for one in range(len(log.row(process)) + 1):
-        for two in range(len(log.row(other)) + 1):
+    for one in range(len(rows[process]) + 1):
+        for two in range(len(rows[other]) + 1):
             moment = greater(_least_at(log, known, process, one), _least_at(log, known, other, two))
             places = places_of(log, moment)
             # Where the least moment that is so far has come further, no moment has these two places.
-            if places[process] == one and places[other] == two and clause_holds(log, clause, places):
+            if places[process] == one and places[other] == two and clause_holds(rows, clause, places):
                 found[(one, two)] = moment
     return found
 
@@ -136,19 +138,20 @@ def _least_at(log, known, process, place):
     return first_moment(log) if place == 0 else known[(process, place - 1)]
 
 
-def _mark_in(log, places, process):
-    return log.mark(process, places[process])
+def _mark_in(rows, places, process):
+    place = places[process]
+    return START if place == 0 else rows[process][place - 1][0]
 
 
-def _lead_in(log, places, clause):
+def _lead_in(rows, places, clause):
     """By how many more steps the first process of a lead clause is ahead of the other one."""
     kind, process, mark, other, second, most = clause
-    return _count_in(log, places, process, mark) - _count_in(log, places, other, second)
+    return _count_in(rows, places, process, mark) - _count_in(rows, places, other, second)
 
 
-def _count_in(log, places, process, mark):
+def _count_in(rows, places, process, mark):
     """The number of the steps that a process has made, of those with a mark unless it is the empty string."""
-    made = log.row(process)[:places[process]]
+    made = rows[process][:places[process]]
     return len([step for step in made if mark == "" or step[0] == mark])
 
 

@@ -83,6 +83,10 @@ class Log:
         """A generator of the triples (process, index, step), in the order in which the steps can be made."""
         yield from self._order
 
+    def order(self):
+        """The list of the triples of walk, for what may not run a generator."""
+        return list(self._order)
+
     def is_part_of(self, other):
         """Whether both logs have the same processes and each row is a beginning of the other log's."""
         if not _are_like(self, other):
@@ -101,7 +105,7 @@ class Log:
         lines = text.split("\n")
         rows = []
         for at, line in enumerate(lines[:-1]):
-            row = _read_row(line)
+            row = read_row(line)
             if row is None or at >= cls.PROCESSES:
                 raise InvalidText(at)
             rows.append(row)
@@ -291,7 +295,7 @@ def _row_text(name, steps):
     return " ".join([f"{name}:", *words]) + "\n"
 
 
-def _read_row(line):
+def read_row(line):
     """The pair of a name and a list of steps with a text, or None."""
     name, colon, rest = line.partition(":")
     # A space stands ahead of each step, so nothing may stand ahead of the first space.

@@ -27,29 +27,29 @@ def last_moment(log):
 
 def past(log, step):
     """The least moment that has a step."""
-    _check_step(log, step)
+    check_step(log, step)
     return pasts(log)[step]
 
 
 def is_ahead(log, one, other):
     """Whether one step is different from the other one and each moment that has the other one has it."""
-    _check_step(log, one)
-    _check_step(log, other)
+    check_step(log, one)
+    check_step(log, other)
     return one != other and has(places_of(log, past(log, other)), one)
 
 
 def meet_of(log, *points):
     """The point with the least place of each process."""
-    _check_points(log, points)
+    check_points(log, points)
     met = last_moment(log)
     for point in points:
-        met = tuple([min(one, other) for one, other in zip(met, point)])
+        met = lesser(met, point)
     return met
 
 
 def join_of(log, *points):
     """The point with the greatest place of each process."""
-    _check_points(log, points)
+    check_points(log, points)
     joined = first_moment(log)
     for point in points:
         joined = greater(joined, point)
@@ -81,6 +81,11 @@ def with_place(log, point, process, place):
     return tuple([place if name == process else old for name, old in zip(log.processes(), point)])
 
 
+def lesser(one, other):
+    """The meet of two points."""
+    return tuple([min(first, second) for first, second in zip(one, other)])
+
+
 def greater(one, other):
     """The join of two points."""
     return tuple([max(first, second) for first, second in zip(one, other)])
@@ -109,7 +114,7 @@ def pasts(log):
     senders = {receiver: sender for sender, receiver in letters(log)}
     first = first_moment(log)
     found = {}
-    for process, index, step in log.walk():
+    for process, index, step in log.order():
         before = found.get((process, index - 1), first)
         if (process, index) in senders:
             before = greater(before, found[senders[(process, index)]])
@@ -129,12 +134,13 @@ def _next_level(log, known, level):
     return sorted(found)
 
 
-def _check_step(log, step):
-    if not _is_named_in(log, step):
+def check_step(log, step):
+    """Raises an error unless a value names a step of a log."""
+    if not is_step_of(log, step):
         raise UnknownStep(step)
 
 
-def _is_named_in(log, value):
+def is_step_of(log, value):
     """Whether any value is a pair of a process of a log and an index of its row."""
     if not isinstance(value, tuple) or len(value) != 2 or value[0] not in log:
         return False
@@ -142,7 +148,8 @@ def _is_named_in(log, value):
     return is_number(index, 0, len(log.row(process)) - 1)
 
 
-def _check_points(log, points):
+def check_points(log, points):
+    """Raises an error unless all values are points of a log."""
     for point in points:
         if not is_point(log, point):
             raise InvalidPoint(point)
