@@ -4,6 +4,8 @@ import itertools
 import random
 
 from tiedmoments.errors import DuplicateMessage, Ring, Unsent
+from tiedmoments.logs import Log
+from tiedmoments.lots import empty_lot, lot_of, whole_lot
 
 LETTERS = "abcdefghijklmnopqrstuvwxyz"
 
@@ -280,3 +282,128 @@ def least_above(rows, condition, point):
     above = [moment for moment in moments_of(rows)
              if is_below(point, moment) and condition_holds_at(rows, condition, moment)]
     return meet(*above) if above else None
+
+
+def steps_of(rows):
+    """The pairs that name all steps, by processes and indexes."""
+    return [(name, index) for name, steps in rows for index in range(len(steps))]
+
+
+def has_step(rows, moment, step):
+    return moment[names_of(rows).index(step[0])] > step[1]
+
+
+def steps_at(rows, moment):
+    return [step for step in steps_of(rows) if has_step(rows, moment, step)]
+
+
+def held_moments(rows, condition):
+    """The moments at which a condition holds, in order."""
+    return [moment for moment in moments_of(rows) if condition_holds_at(rows, condition, moment)]
+
+
+def closure(moments):
+    """All moments that are meets and joins of some."""
+    found = set(moments)
+    fresh = found
+    while fresh:
+        fresh = {put(one, other) for one in fresh for other in found for put in (meet, join)} - found
+        found = found | fresh
+    return in_order(found)
+
+
+def need_in(rows, held, step):
+    """The least of the moments of a lot that has a step, or None."""
+    having = [moment for moment in held if has_step(rows, moment, step)]
+    return meet(*having) if having else None
+
+
+def free_in(rows, held):
+    """The free steps of a lot, given by its moments."""
+    return [step for step in steps_of(rows) if len({has_step(rows, moment, step) for moment in held}) == 2]
+
+
+def blocks_in(rows, held):
+    """The blocks of a lot: free steps that each of its moments has together, or has neither."""
+    found = {}
+    for step in free_in(rows, held):
+        found.setdefault(tuple(has_step(rows, moment, step) for moment in held), []).append(step)
+    needs = {tuple(block): need_in(rows, held, block[0]) for block in found.values()}
+    return sorted(needs, key=lambda block: (sum(needs[block]), needs[block]))
+
+
+def is_ahead_in(rows, held, one, other):
+    """Whether a block is ahead of another one."""
+    need = need_in(rows, held, other[0])
+    return one != other and all(has_step(rows, need, step) for step in one)
+
+
+def courses_in(rows, held):
+    """All courses of a lot, each a list of moments."""
+    blocks = blocks_in(rows, held)
+    found = set(held)
+    courses = [[meet(*held)]]
+    for _ in blocks:
+        longer = []
+        for course in courses:
+            made = steps_at(rows, course[-1])
+            for block in blocks:
+                if block[0] not in made:
+                    point = tuple(sum(1 for step in [*made, *block] if step[0] == name) for name in names_of(rows))
+                    if point in found:
+                        longer.append([*course, point])
+        courses = longer
+    return courses
+
+
+def random_tests(rng, rows, most=3):
+    """Tests of some processes; there must be one."""
+    names = rng.sample(names_of(rows), rng.randint(1, min(most, len(rows))))
+    return tuple(("at", name, random_marks(rng)) for name in names)
+
+
+def marks_at(rows, moment):
+    """The marks of the processes at a moment, by their names."""
+    return {name: steps[place - 1][0] if place else "start" for (name, steps), place in zip(rows, moment)}
+
+
+def all_tests_hold(rows, tests, moment):
+    return all(marks_at(rows, moment)[process] in marks for kind, process, marks in tests)
+
+
+def stretches_in(rows, held, test):
+    """The stretches of a test in a lot, from their definition."""
+    own = names_of(rows).index(test[1])
+    places = sorted({moment[own] for moment in held})
+    right = {moment[own]: marks_at(rows, moment)[test[1]] in test[2] for moment in held}
+    found = []
+    for first in range(len(places)):
+        for last in range(first, len(places)):
+            inside = all(right[place] for place in places[first:last + 1])
+            beside = places[:first][-1:] + places[last + 1:][:1]
+            if inside and not any(right[place] for place in beside):
+                found.append((test[1], places[first], places[last]))
+    return found
+
+
+def overlap_in(rows, held, one, other):
+    """Whether two stretches overlap surely."""
+    return _begins_ahead(rows, held, one, other) and _begins_ahead(rows, held, other, one)
+
+
+def _begins_ahead(rows, held, one, other):
+    least, greatest = dict(zip(names_of(rows), meet(*held))), dict(zip(names_of(rows), join(*held)))
+    if one[1] == least[one[0]] or other[2] == greatest[other[0]]:
+        return True
+    of = {step: block for block in blocks_in(rows, held) for step in block}
+    return is_ahead_in(rows, held, of[(one[0], one[1] - 1)], of[(other[0], other[2])])
+
+
+def lots_of_all_kinds(rng, rows):
+    """A few pairs of a lot and its moments: of conditions, whole and empty ones, meets and joins."""
+    log = Log(*rows)
+    conditions = [closed_condition(rng, rows, most) for most in (0, 2, 4)]
+    found = [(lot_of(log, condition), held_moments(rows, condition)) for condition in conditions]
+    found.append((found[1][0] | found[2][0], closure(found[1][1] + found[2][1])))
+    found.append((found[1][0] & found[2][0], [moment for moment in found[1][1] if moment in found[2][1]]))
+    return found + [(whole_lot(log), moments_of(rows)), (empty_lot(log), [])]
