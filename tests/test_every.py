@@ -2,8 +2,8 @@
 
 import unittest
 
-from tests.helper import ODD_VALUES, all_tests_hold, closed_condition, courses_in, held_moments, join, lots_of_all_kinds
-from tests.helper import meet, overlap_in, random_tests, seeded, small_rows, stretches_in
+from tests.helper import ODD_VALUES, all_tests_hold, courses_in, held_moments, join, lots_of_all_kinds, meet, overlap_in
+from tests.helper import random_tests, seeded, small_rows, stretches_in
 from tests.test_stretches import NO_TESTS
 from tiedmoments.climbs import Paper
 from tiedmoments.courses import Avoid, Sure, every

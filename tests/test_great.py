@@ -13,6 +13,7 @@ from tiedmoments.courses import every
 from tiedmoments.errors import Uneven
 from tiedmoments.logs import Log
 from tiedmoments.lots import lot_of, whole_lot
+from tiedmoments.steering import steer
 from tiedmoments.sums import best, total, with_total
 
 MARKS = ["x", "y", "zz", "done"]
@@ -151,6 +152,37 @@ class GreatTest(unittest.TestCase):
         course = list(lot.walk()) if found else found.course()
         passed = any(all(clause_holds_at(rows, test, moment) for test in tests) for moment in course)
         self.assertIs(passed, bool(found))
+
+    def test_steering(self):
+        rng = seeded(197)
+        words = {"steered": 0, "stuck": 0, "tied": 0}
+        for rows, condition in great_logs(rng, 40):
+            for lot in [lot_of(Log(*rows), condition), whole_lot(Log(*rows))]:
+                names = rng.sample(names_of(rows), rng.randint(1, len(rows)))
+                tests = tuple(("at", name, tuple(rng.sample(MARKS + ["start"], rng.randint(1, 3)))) for name in names)
+                found = steer(lot, tests) if lot else None
+                if found is not None:
+                    self.assertIs(found.holds(), True)
+                    words[found.WORD] += 1
+                    words["tied"] += self.check_tied(rows, lot, tests, found)
+        self.assertTrue(min(words.values()) > 5, words)
+
+    def check_tied(self, rows, lot, tests, found):
+        """Courses of the steered lot, or of one that cannot be steered; returns whether there are ties."""
+        course = list(found.steered_lot().walk()) if found else list(lot.walk())
+        held = [any(clause_holds_at(rows, test, moment) for test in tests) for moment in course]
+        self.assertIs(all(held), bool(found))
+        if found:
+            self.assertEqual(sorted(found.steered_lot().blocks()), sorted(lot.blocks()))
+        return bool(found) and found.ties() != ()
+
+    def test_tests_of_six_processes(self):
+        rows = [(name, [(mark, 0, None) for mark in ["x", "y"] * 10]) for name in "abcdef"]
+        lot = whole_lot(Log(*rows))
+        tests = tuple(("at", name, ("y", "start")) for name in "abcdef")
+        for found in [steer(lot, tests), every(lot, tests)]:
+            self.assertIs(found.holds(), True)
+        self.assertEqual([steer(lot, tests).WORD, every(lot, tests).WORD], ["steered", "sure"])
 
     def test_full_rows_with_long_messages_to_and_fro(self):
         rows = [("a", []), ("b", [])]

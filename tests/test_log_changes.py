@@ -3,7 +3,7 @@
 import itertools
 import unittest
 
-from tests.helper import ODD_VALUES, check_error, copy_of, message_error, random_rows, seeded
+from tests.helper import ODD_VALUES, check_error, message_error, random_rows, seeded
 from tiedmoments.errors import (DuplicateMessage, DuplicateName, InvalidMoment, InvalidName, InvalidStep, TooMany,
                                 UnknownProcess, UnlikeLogs, Unsent)
 from tiedmoments.logs import Log

@@ -2,8 +2,8 @@
 
 from tiedmoments.climbs import check_closed, forced_point, slopes_of
 from tiedmoments.errors import EmptyLot, InvalidNumber, UnknownProcess, UnlikeLogs
-from tiedmoments.moments import check_points, check_step, first_moment, greater, has, is_point, lesser, lies_within
-from tiedmoments.moments import pasts, places_of, with_place
+from tiedmoments.moments import check_points, check_step, first_moment, greater, is_point, lesser, lies_within, pasts
+from tiedmoments.moments import places_of, with_place
 from tiedmoments.words import is_number
 
 MANY = 5000
