@@ -1,5 +1,6 @@
 """Best moments and flows: against all moments of a lot, and papers of which something is changed."""
 
+import itertools
 import unittest
 
 from tests.helper import ODD_VALUES, check_error, free_in, has_step, held_moments, join, lots_of_all_kinds, meet
@@ -164,7 +165,7 @@ class PaperTest(unittest.TestCase):
             for other in [(gain, cost, amount + 1), (gain, cost, amount - 1), (cost, gain, amount), (gain, cost, True),
                           (rng.choice(steps), cost, amount), (gain, rng.choice(steps), amount), [gain, cost, amount],
                           (gain, cost), (list(gain), cost, amount), (gain, cost, str(amount)), (gain, cost, 0),
-                          ((gain[0], True), cost, amount), ("q", cost, amount), (("q", 0), cost, amount)]:
+                          ((gain[0], bool(gain[1])), cost, amount), (gain, (cost[0], bool(cost[1])), amount), ("q", cost, amount), (("q", 0), cost, amount)]:
                 yield ahead + [other] + behind
             # Two amounts in the place of one are right, too.
             yield ahead + [(gain, cost, 1), (gain, cost, amount - 1)] + behind
@@ -207,6 +208,18 @@ class PaperTest(unittest.TestCase):
                 for cost in steps_of(rows):
                     for amount in (1, 2, 3):
                         right += self.check_paper(rows, lot, held, moment, [(gain, cost, amount)], None, False)
+        self.assertGreater(right, 0)
+
+    def test_all_pairs_of_flows(self):
+        rows = [("a", [("x", -2, None), ("y", 3, None)]), ("b", [("x", -2, ("send", "m"))])]
+        rows[0][1][1] = ("y", 3, ("receive", "m"))
+        lot, held = whole_lot(Log(*rows)), moments_of(rows)
+        right = 0
+        for moment in held:
+            for one, other in itertools.product([("a", 0), ("b", 0)], repeat=2):
+                for first, second in itertools.product((1, 2, 3), repeat=2):
+                    flow = [(("a", 1), one, first), (("a", 1), other, second)]
+                    right += self.check_paper(rows, lot, held, moment, flow, None, False)
         self.assertGreater(right, 0)
 
     def test_other_values(self):

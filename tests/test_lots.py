@@ -171,8 +171,8 @@ class ManyTest(unittest.TestCase):
     def test_the_default_bound(self):
         lot = whole_lot(Log.read("a:" + " x" * 9 + "\nb:" + " x" * 9 + "\nc:" + " x" * 9 + "\n"))
         self.assertEqual((lot.many(), lot.many(1000), lot.many(999)), (1000, 1000, None))
-        lot = whole_lot(Log.read("a:" + " x" * 10 + "\nb:" + " x" * 9 + "\nc:" + " x" * 9 + "\n"))
-        self.assertEqual((lot.many(), lot.many(1100), lot.many(1099)), (None, 1100, None))
+        lot = whole_lot(Log.read("a:" + " x" * 6 + "\nb:" + " x" * 10 + "\nc:" + " x" * 12 + "\n"))
+        self.assertEqual((lot.many(), lot.many(1001), lot.many(1000)), (None, 1001, None))
 
     def test_great_lots(self):
         lot = whole_lot(Log(*[(name, [("x", 0, None)] * 20) for name in "abcdef"]))

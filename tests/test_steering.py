@@ -188,7 +188,8 @@ class SteeredTest(unittest.TestCase):
             yield behind + (ties[at],) + ahead
             for changed in [(kind, other, one), (kind, one, one), (kind, one, rng.choice(steps)), (kind, one), None,
                             (kind, rng.choice(steps), other), [kind, one, other], (kind, list(one), other), "tie",
-                            (kind, one, (other[0], bool(other[1]))), ("floor", one[0], 0), ("ceiling", one[0], 20)]:
+                            (kind, one, (other[0], bool(other[1]))), ("floor", one[0], 0), ("ceiling", one[0], 20),
+                            ("lead", "a", "", "b", "", 9), ("pair", "a", "b", (("x", "x"),)), ("at", one[0], ("x",))]:
                 yield ahead + (changed,) + behind
         for tie in drawn:
             yield ties + (tie,)

@@ -90,40 +90,29 @@ class Network:
 
     def open_costs(self):
         """The costs from which more could flow out of the network, though none of it comes that far."""
-        found = {cost: True for cost in self._behind if self._left[cost] > 0}
-        queue = list(found)
-        while queue != []:
-            step = queue.pop(0)
-            payers = self._behind[step] if step in self._behind else self._paid_by(step)
-            for other in payers:
-                if other not in found:
-                    found[other] = True
-                    queue.append(other)
+        unpaid = [cost for cost in self._behind if self._left[cost] > 0]
+        found = _spread(unpaid, lambda step: self._sources(step))
         return [cost for cost in self._behind if cost in found]
-
-    def _flows(self, gain, cost):
-        return self._amounts.get((gain, cost), 0) > 0
-
-    def _paid_by(self, gain):
-        """The costs to which something flows from a gain."""
-        return [cost for cost in self._ahead[gain] if self._flows(gain, cost)]
-
-    def _payers(self, cost):
-        """The gains from which something flows to a cost."""
-        return [gain for gain in self._behind[cost] if self._flows(gain, cost)]
 
     def _reached(self):
         """For each step to which more could flow, the one ahead of it on the way; None for those where ways begin."""
-        found = {gain: None for gain in self._ahead if self._left[gain] > 0}
-        queue = list(found)
-        while queue != []:
-            step = queue.pop(0)
-            paid = self._ahead[step] if step in self._ahead else self._payers(step)
-            for other in paid:
-                if other not in found:
-                    found[other] = step
-                    queue.append(other)
-        return found
+        unused = [gain for gain in self._ahead if self._left[gain] > 0]
+        return _spread(unused, lambda step: self._targets(step))
+
+    def _targets(self, step):
+        """The steps to which more could flow from one; what a cost has got can be given back."""
+        if step in self._ahead:
+            return self._ahead[step]
+        return [gain for gain in self._behind[step] if self._flows(gain, step)]
+
+    def _sources(self, step):
+        """The steps from which more could flow to one."""
+        if step in self._behind:
+            return self._behind[step]
+        return [cost for cost in self._ahead[step] if self._flows(step, cost)]
+
+    def _flows(self, gain, cost):
+        return self._amounts.get((gain, cost), 0) > 0
 
     def _path(self):
         """The steps of a way on which more can flow from a gain to a cost, or [] if there is none."""
@@ -170,6 +159,19 @@ def with_total(lot, number):
         if _sum_at(lot.log, worth, moment) == number:
             return moment
     return None
+
+
+def _spread(starts, nexts):
+    """For each step that can be reached from some, the one ahead of it on the way; None for those themselves."""
+    found = {step: None for step in starts}
+    queue = list(starts)
+    while queue != []:
+        step = queue.pop(0)
+        for other in nexts(step):
+            if other not in found:
+                found[other] = step
+                queue.append(other)
+    return found
 
 
 def _check_weights(value):
