@@ -8,7 +8,7 @@ from tiedmoments.logs import Log
 from tiedmoments.lots import Lot, empty_lot, lot_of, whole_lot
 from tiedmoments.sums import Best, best, total, with_total
 
-LOT_METHODS = """log least greatest need above below moments many blocks places ties walk beyond is_within __and__ __or__
+LOT_METHODS = """least greatest need above below moments many blocks places ties walk beyond is_within __and__ __or__
     __eq__ __contains__ __bool__ __repr__""".split()
 TESTS = (("at", "a", ("x",)),)
 
@@ -25,10 +25,21 @@ class LotTest(unittest.TestCase):
 
     def test_properties_cannot_be_assigned(self):
         lot = whole_lot(sample_log())
-        for name in ["log", "least", "greatest"]:
+        for name in ["least", "greatest"]:
             self.assertIsInstance(vars(Lot)[name], property)
             with self.assertRaises(AttributeError):
                 setattr(lot, name, None)
+
+    def test_each_lot_has_its_log_from_the_beginning(self):
+        log = sample_log()
+        one, other = lot_of(log, (("floor", "a", 1),)), lot_of(sample_log(), (("ceiling", "a", 1),))
+        for lot in [one, whole_lot(log), empty_lot(log)]:
+            self.assertIs(vars(lot)["log"], log)
+        for lot in [one & other, one | other, one & empty_lot(log), one | empty_lot(log), empty_lot(log) | one]:
+            self.assertEqual(vars(lot)["log"], log)
+            for use in [lot.many, lot.blocks, lambda: lot.places("a"), lambda: lot.below((1, 0)), lambda: lot == one]:
+                use()
+            self.assertEqual((lot.log, one.log, other.log), (log, log, log))
 
     def test_what_was_handed_in_may_be_changed(self):
         steps = [("x", 1, ("send", "m")), ("y", 0, None)]

@@ -99,8 +99,40 @@ def started_by(names):
     known = functions_by_name()
     listed = [function for name in names for function in known.get(name, [])]
     read = [node for path in FILES for node in nodes(path, ast.FunctionDef) for decorator in node.decorator_list
-            if isinstance(decorator, ast.Name) and decorator.id == "property"]
+            if is_property(decorator)]
     return listed + read
+
+
+def decorated(node, found):
+    """The names of the methods of a class over which a decorator stands."""
+    methods = [part for part in node.body if isinstance(part, ast.FunctionDef)]
+    return {method.name for method in methods if any(found(decorator) for decorator in method.decorator_list)}
+
+
+def is_property(decorator):
+    return isinstance(decorator, ast.Name) and decorator.id == "property"
+
+
+def is_setter(decorator):
+    return isinstance(decorator, ast.Attribute) and decorator.attr == "setter"
+
+
+def read_only(trees):
+    """The names that some class has as a property without having its setter."""
+    classes = [node for tree in trees for node in ast.walk(tree) if isinstance(node, ast.ClassDef)]
+    return {name for node in classes for name in decorated(node, is_property) - decorated(node, is_setter)}
+
+
+def assigned_names(trees):
+    """The names of the attributes that are assigned or deleted anywhere, of whatever object."""
+    found = set()
+    for tree in trees:
+        for node in ast.walk(tree):
+            if isinstance(node, ast.Attribute) and not isinstance(node.ctx, ast.Load):
+                found.add(node.attr)
+            if isinstance(node, ast.Call) and isinstance(node.func, ast.Name) and node.func.id == "setattr":
+                found.add(ast.literal_eval(node.args[1]))
+    return found
 
 
 class LanguageTest(unittest.TestCase):
@@ -162,6 +194,28 @@ class LanguageTest(unittest.TestCase):
             for node in nodes(path, ast.Call):
                 if isinstance(node.func, ast.Attribute):
                     self.assertNotIn(node.func.attr, stored, (path, node.lineno))
+
+    def test_no_property_without_a_setter_has_the_name_of_an_assigned_attribute(self):
+        trees = [ast.parse(path.read_text()) for path in FILES]
+        barred, assigned = read_only(trees), assigned_names(trees)
+        self.assertEqual(sorted(barred & assigned), [])
+        # What is looked for is there at all; a limit is both, and has its setter.
+        self.assertTrue({"busy", "computed", "greatest", "least", "present", "tracer"} <= barred)
+        self.assertTrue({"log", "limit", "lot", "value"} <= assigned)
+
+    def test_such_names_are_found_in_every_kind_of_assignment(self):
+        getter = "class A:\n    @property\n    def log(self):\n        return self._log\n"
+        setter = "    @log.setter\n    def log(self, value):\n        self._log = value\n"
+        for row in ["box.log = 1", "box.log += 1", "box.log: int = 1", "k, (box.log, *box.rest) = xs", "box.rows[0].log = 1",
+                    "for box.log in xs: pass", "with xs as box.log: pass", "del box.log", "setattr(box, 'log', 1)"]:
+            for text, clash in [(getter, {"log"}), (getter + setter, set())]:
+                trees = [ast.parse(text), ast.parse(row)]
+                self.assertEqual(read_only(trees) & assigned_names(trees), clash, row)
+            # A setter of one class does not stand for that of another one.
+            trees = [ast.parse(getter + setter), ast.parse(getter.replace("A", "B")), ast.parse(row)]
+            self.assertEqual(read_only(trees) & assigned_names(trees), {"log"}, row)
+        for row in ["log = 1", "k = box.log", "box.logs = 1", "box.log[0] = 1", "box.log.rows = 1", "f(log=1)", "box.log()"]:
+            self.assertNotIn("log", assigned_names([ast.parse(row)]), row)
 
     def test_what_operators_run_changes_nothing(self):
         for function in run_by(started_by(OPERATORS + CALM)):

@@ -13,17 +13,13 @@ class Lot:
     """A set of moments, known by its least one and by the needs of the steps that are not shut; it never changes."""
 
     def __init__(self, log, least, needs):
-        self._log = log
+        # No property: climbs store an attribute of this name, which a property without a setter would bar.
+        self.log = log
         self._least = least
         self._needs = needs
         self._greatest = _join(least, list(needs.values()))
         self._blocks = _blocks_of(log, least, needs)
         self._sizes = {needs[block[0]]: len(block) for block in self._blocks}
-
-    @property
-    def log(self):
-        """The log of which these are moments."""
-        return self._log
 
     @property
     def least(self):
@@ -37,19 +33,19 @@ class Lot:
 
     def need(self, step):
         """The least moment that has a step, or None for a shut step."""
-        check_step(self._log, step)
+        check_step(self.log, step)
         return self._needs.get(step)
 
     def above(self, point):
         """The least moment within which a point lies, or None."""
-        check_points(self._log, [point])
+        check_points(self.log, [point])
         if self._least is None:
             return None
-        return _lifted(self._log, self._needs, greater(self._least, point))
+        return _lifted(self.log, self._needs, greater(self._least, point))
 
     def below(self, point):
         """The greatest moment that lies within a point, or None."""
-        check_points(self._log, [point])
+        check_points(self.log, [point])
         if self._least is None or not lies_within(self._least, point):
             return None
         return _join(self._least, [need for need in self._needs.values() if lies_within(need, point)])
@@ -83,19 +79,19 @@ class Lot:
 
     def places(self, process):
         """The ascending list of the places that a process has at the moments."""
-        if process not in self._log:
+        if process not in self.log:
             raise UnknownProcess(process)
-        return sorted(set([places_of(self._log, moment)[process] for moment in self._corners()]))
+        return sorted(set([places_of(self.log, moment)[process] for moment in self._corners()]))
 
     def ties(self):
         """The condition of floors, ceilings and ties that holds just at these moments."""
         if self._least is None:
             raise EmptyLot()
-        names = self._log.processes()
+        names = self.log.processes()
         floors = [("floor", name, place) for name, place in zip(names, self._least) if place > 0]
         ceilings = [("ceiling", name, place)
-                    for name, place, length in zip(names, self._greatest, self._log.lengths()) if place < length]
-        known = pasts(self._log)
+                    for name, place, length in zip(names, self._greatest, self.log.lengths()) if place < length]
+        known = pasts(self.log)
         between = [tie for step in free_steps(self) for tie in self._ties_of(step, known[step])]
         return tuple([*floors, *ceilings, *between])
 
@@ -123,9 +119,9 @@ class Lot:
     def __and__(self, other):
         _check_like(self, other)
         if self._least is None or other._least is None:
-            return Lot(self._log, None, {})
+            return Lot(self.log, None, {})
         forced = {step: greater(need, other._needs[step]) for step, need in self._needs.items() if step in other._needs}
-        return _lot_from(self._log, greater(self._least, other._least), forced)
+        return _lot_from(self.log, greater(self._least, other._least), forced)
 
     def __or__(self, other):
         _check_like(self, other)
@@ -135,17 +131,17 @@ class Lot:
             return self
         needs = {step: lesser(need, other._needs.get(step, need)) for step, need in self._needs.items()}
         more = {step: need for step, need in other._needs.items() if step not in needs}
-        return Lot(self._log, lesser(self._least, other._least), {**needs, **more})
+        return Lot(self.log, lesser(self._least, other._least), {**needs, **more})
 
     def __eq__(self, other):
-        return (isinstance(other, Lot) and self._log == other._log and self._least == other._least
+        return (isinstance(other, Lot) and self.log == other.log and self._least == other._least
                 and self._needs == other._needs)
 
     def __contains__(self, moment):
-        if self._least is None or not is_point(self._log, moment) or not lies_within(self._least, moment):
+        if self._least is None or not is_point(self.log, moment) or not lies_within(self._least, moment):
             return False
         # A need has the past of its step, so a point that has the needs of its steps is a moment.
-        needs = [self._needs.get(step) for step in _last_steps(self._log, moment)]
+        needs = [self._needs.get(step) for step in _last_steps(self.log, moment)]
         return all([need is not None and lies_within(need, moment) for need in needs])
 
     def __bool__(self):
@@ -163,13 +159,13 @@ class Lot:
     def _next_moments(self, moment):
         """The moments that have just one block more than a moment."""
         # Such a block has the next step of a process; the need of that one may have other blocks, too.
-        needs = [self._needs[step] for step in zip(self._log.processes(), moment) if step in self._needs]
+        needs = [self._needs[step] for step in zip(self.log.processes(), moment) if step in self._needs]
         joins = [(greater(moment, need), self._sizes[need]) for need in needs]
         return sorted(set([higher for higher, size in joins if sum(higher) - sum(moment) == size]))
 
     def _ties_of(self, step, known):
         """The ties from a free step with this past."""
-        rows = list(zip(self._log.processes(), self._needs[step], known, self._least))
+        rows = list(zip(self.log.processes(), self._needs[step], known, self._least))
         return [("tie", step, (name, place - 1)) for name, place, old, least in rows if place > max(old, least)]
 
 
@@ -276,5 +272,5 @@ def _size_and_places(moment):
 
 def _check_like(one, other):
     """Raises an error unless a value is a lot of a log that equals that of a lot."""
-    if not isinstance(other, Lot) or one._log != other._log:
+    if not isinstance(other, Lot) or one.log != other.log:
         raise UnlikeLogs()
